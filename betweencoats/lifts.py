@@ -1,0 +1,37 @@
+"""Lifts: for each place the row that leads to it from the base."""
+
+from betweencoats.nets import come_to
+from betweencoats.rests import struck
+from betweencoats.standings import check_standing
+from betweencoats.worlds import check_pegged
+
+
+def lift_rows(world, a):
+    """The lifts of a standing that was checked; the world may be free."""
+    found = come_to(world.net, world.base)
+    rows = {-1: ()}
+    for place, upper in found.items():
+        rows[place] = struck(rows[upper] + (a[place],))
+    return tuple([rows[place] for place in range(world.net.many)])
+
+
+def closing_rows(world, a):
+    """For each thread that leads to no place from its upper, in order, the row round by it to the base and back."""
+    found = come_to(world.net, world.base)
+    rows = lift_rows(world, a)
+    spare = [(x, y) for x, y in world.net.threads if found[x] != y and found[y] != x]
+    return tuple([struck(rows[x] + (a[y],) + rows[y][::-1][1:]) for x, y in spare])
+
+
+def lifts(world, a):
+    """For each place a straight row from the coat at the base to the coat at the place."""
+    check_pegged(world)
+    check_standing(world, a)
+    return lift_rows(world, a)
+
+
+def is_flat(world, a):
+    """Whether all closing rows of a standing are single."""
+    check_pegged(world)
+    check_standing(world, a)
+    return all([len(row) == 1 for row in closing_rows(world, a)])

@@ -1,0 +1,66 @@
+"""The interface: names, arguments, and where each thing is defined: [0.1] and the part "The interface"."""
+
+import importlib
+import inspect
+import pathlib
+import unittest
+
+FOLDER = pathlib.Path(__file__).resolve().parent.parent / "betweencoats"
+
+FUNCTIONS = {
+    "tables": ("made_table(rows)",),
+    "tableshapes": (
+        "all_coats(q)", "unlike_coats(q)", "line_coats(q)", "ring_coats(q)", "doubled(table)", "even_degree(table)"),
+    "evenlots": ("even_lots(table)",),
+    "nets": ("made_net(many, threads)",),
+    "netshapes": ("line_net(n)", "star_net(n)", "ring_net(n)", "grid_net(w, h)"),
+    "apart": ("apart(net, x)", "uppers(net, x)"),
+    "worlds": ("made_world(table, net, *, pegs=())",),
+    "standings": ("is_standing(world, thing)", "standings_of(world)"),
+    "rests": ("rest(row)", "is_straight(row)", "strikes(row)", "turns(row)", "back(row)"),
+    "joins": ("joined(one, two)",),
+    "gaps": ("gap(one, two)",),
+    "cores": ("core(row)",),
+    "lets": ("lets(world, standing)", "done(world, standing, place, coat)"),
+    "runs": (
+        "run_end(world, standing, run)", "states_of(world, standing, run)", "run_back(world, standing, run)",
+        "run_right(world, a, b, run)"),
+    "traces": ("trace(world, standing, run)",),
+    "classes": ("class_of(world, standing)",),
+    "frozen": ("frozen(world, a)",),
+    "links": ("linked_from(world, a, b, first)", "link(world, a, b)"),
+    "linkjudge": ("link_right(world, a, b, rows)",),
+    "lifts": ("lifts(world, a)", "is_flat(world, a)"),
+}
+
+CLASSES = {"tables": "Table", "nets": "Net", "worlds": "World"}
+
+
+class Interface(unittest.TestCase):
+
+    def test_functions(self):
+        for file, signatures in FUNCTIONS.items():
+            module = importlib.import_module("betweencoats." + file)
+            for signature in signatures:
+                name = signature[:signature.index("(")]
+                function = getattr(module, name)
+                self.assertTrue(inspect.isfunction(function))
+                self.assertEqual(name + str(inspect.signature(function)), signature)
+                self.assertEqual(function.__module__, module.__name__)
+
+    def test_classes(self):
+        for file, name in CLASSES.items():
+            module = importlib.import_module("betweencoats." + file)
+            thing = getattr(module, name)
+            self.assertTrue(inspect.isclass(thing))
+            self.assertEqual(thing.__module__, module.__name__)
+            self.assertIn("__eq__", vars(thing))
+
+    def test_the_package_holds_python_files_alone(self):
+        names = [path.name for path in FOLDER.iterdir() if path.name != "__pycache__"]
+        self.assertEqual([name for name in names if not name.endswith(".py")], [])
+        self.assertIn("__init__.py", names)
+
+
+if __name__ == "__main__":
+    unittest.main()

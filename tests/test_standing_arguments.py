@@ -1,0 +1,90 @@
+"""What a standing argument raises: [3]."""
+
+import itertools
+import unittest
+
+from betweencoats.classes import class_of
+from betweencoats.errors import BadSize, BadStone
+from betweencoats.frozen import frozen
+from betweencoats.lets import done, lets
+from betweencoats.lifts import is_flat, lifts
+from betweencoats.links import link, linked_from
+from betweencoats.netshapes import line_net, ring_net, star_net
+from betweencoats.runs import run_back, run_end, states_of
+from betweencoats.standings import is_standing
+from betweencoats.tableshapes import unlike_coats
+from betweencoats.traces import trace
+from betweencoats.worlds import made_world
+from tests.plainly import Case, small_worlds
+
+# Each function that takes a standing, with what stands behind it as bad as can be.
+TAKERS = (
+    (lets, ()), (done, (-9, -9)), (run_end, (((-9, -9),) * 700,)), (states_of, (((-9, -9),) * 700,)),
+    (run_back, (((-9, -9),) * 700,)), (trace, (((-9, -9),) * 700,)), (class_of, ()), (frozen, ()),
+    (link, ((),)), (linked_from, ((), ())), (lifts, ()), (is_flat, ()),
+)
+
+
+class StandingArguments(Case):
+
+    def test_every_function_that_takes_a_standing(self):
+        world = made_world(unlike_coats(3), line_net(3), pegs=(1,))
+        for call, more in TAKERS:
+            self.refuses(BadSize, 0, call, world, (), *more)
+            self.refuses(BadSize, 2, call, world, (0, 1), *more)
+            self.refuses(BadSize, 4, call, world, (9, 9, 9, 9), *more)
+            self.refuses(BadStone, 0, call, world, (-1, 0, 1), *more)
+            self.refuses(BadStone, 0, call, world, (3, 3, 3), *more)
+            self.refuses(BadStone, 1, call, world, (1, 1, 1), *more)
+            self.refuses(BadStone, 2, call, world, (0, 1, 3), *more)
+
+    def test_the_second_standing_comes_after_the_first(self):
+        world = made_world(unlike_coats(3), line_net(3), pegs=(1,))
+        for call, more in ((link, ()), (linked_from, ((),))):
+            self.refuses(BadStone, 2, call, world, (0, 1, 1), (), *more)
+            self.refuses(BadSize, 0, call, world, (0, 1, 0), (), *more)
+            self.refuses(BadSize, 5, call, world, (0, 1, 0), (7, 7, 7, 7, 7), *more)
+            self.refuses(BadStone, 1, call, world, (0, 1, 0), (0, 0, 0), *more)
+
+    def test_stones(self):
+        world = made_world(unlike_coats(3), line_net(3))
+        self.refuses(BadStone, 0, lets, world, (3, 1, 0))
+        self.refuses(BadStone, 0, lets, world, (-1, 1, 0))
+        self.refuses(BadStone, 1, lets, world, (0, 0, 0))
+        self.refuses(BadStone, 1, lets, world, (0, 3, 9))
+        self.refuses(BadStone, 2, lets, world, (0, 1, 1))
+        self.refuses(BadStone, 2, lets, world, (0, 1, -1))
+
+    def test_bad_stones_are_named_by_the_greater_place(self):
+        world = made_world(unlike_coats(3), star_net(4))
+        self.refuses(BadStone, 2, lets, world, (0, 1, 0, 1))
+        self.refuses(BadStone, 1, lets, world, (0, 0, 0, 0))
+        self.refuses(BadStone, 3, lets, world, (1, 0, 2, 1))
+        world = made_world(unlike_coats(3), ring_net(4))
+        self.refuses(BadStone, 3, lets, world, (0, 1, 2, 0))
+        self.refuses(BadStone, 3, lets, world, (0, 1, 2, 2))
+
+    def test_by_the_words(self):
+        for world in small_worlds():
+            if world.net.many == 4 and world.base == 0:
+                for coats in itertools.product(range(-1, world.table.many + 1), repeat=4):
+                    self.check_standing(world, coats)
+
+    def check_standing(self, world, coats):
+        bad = []
+        for v in range(4):
+            lesser = [x for x, y in world.net.threads if y == v]
+            if coats[v] not in range(world.table.many):
+                bad.append(v)
+            elif any(coats[x] in range(world.table.many) and coats[v] not in world.table.beside[coats[x]]
+                     for x in lesser):
+                bad.append(v)
+        if bad:
+            self.refuses(BadStone, bad[0], lets, world, coats)
+        else:
+            self.assertTrue(is_standing(world, coats))
+            lets(world, coats)
+
+
+if __name__ == "__main__":
+    unittest.main()
