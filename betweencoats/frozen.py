@@ -12,9 +12,8 @@ def is_held(world, a, kept, place):
     return len(coats) > 0 and min(coats) != max(coats)
 
 
-def frozen(world, a):
-    """The greatest set of places that hold one another, ascending."""
-    check_standing(world, a)
+def frozen_places(world, a):
+    """The frozen places of a standing that was checked, ascending."""
     kept = [True] * world.net.many
     again = True
     while again:
@@ -24,3 +23,9 @@ def frozen(world, a):
                 kept[place] = False
                 again = True
     return tuple([place for place in range(world.net.many) if kept[place]])
+
+
+def frozen(world, a):
+    """The greatest set of places that hold one another, ascending."""
+    check_standing(world, a)
+    return frozen_places(world, a)

@@ -1,6 +1,6 @@
 """The judge of links."""
 
-from betweencoats.frozen import frozen
+from betweencoats.frozen import frozen_places
 from betweencoats.kinds import are_numbers
 from betweencoats.links import is_link_row, rows_fit
 from betweencoats.standings import is_standing
@@ -16,6 +16,6 @@ def link_right(world, a, b, rows):
         if not are_numbers(row) or not is_link_row(world.table, row, a[place], b[place]):
             return False
     # Each peg is a frozen place.
-    if not all([len(rows[place]) == 1 for place in frozen(world, a)]):
+    if not all([len(rows[place]) == 1 for place in frozen_places(world, a)]):
         return False
     return rows_fit(world.net, a, b, rows)

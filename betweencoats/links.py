@@ -48,11 +48,16 @@ def linked_from(world, a, b, first):
     return link_of(world, a, b, first)
 
 
+def base_link(world, a, b):
+    """The link from a to b, standings that were checked, whose row at the base is single, or None."""
+    if a[world.base] != b[world.base]:
+        return None
+    return link_of(world, a, b, (a[world.base],))
+
+
 def link(world, a, b):
     """The link from a to b whose row at the base is single, or None."""
     check_pegged(world)
     check_standing(world, a)
     check_standing(world, b)
-    if a[world.base] != b[world.base]:
-        return None
-    return link_of(world, a, b, (a[world.base],))
+    return base_link(world, a, b)

@@ -70,6 +70,19 @@ def small_worlds(pegged_only=False):
     yield made_world(unlike_coats(3), grid_net(3, 2), pegs=(1, 2))
 
 
+def straight_ring_worlds():
+    """Rings that may be straight all round, with a peg on them or on a place that hangs at them."""
+    for many in (3, 4, 5, 6):
+        ring = ring_net(many)
+        tail = made_net(many + 1, ring.threads + ((many - 1, many),))
+        for table in (unlike_coats(3), ring_coats(many)):
+            yield made_world(table, ring, pegs=(many // 2,))
+            yield made_world(table, ring, pegs=(0, many - 1))
+            yield made_world(table, tail, pegs=(many,))
+    yield made_world(unlike_coats(4), ring_net(4), pegs=(1,))
+    yield made_world(unlike_coats(3), BOW, pegs=(4,))
+
+
 def standings(world):
     """All standings, by trying all tuples of coats."""
     roads = world.table.beside
@@ -165,3 +178,41 @@ def is_right(world, a, b, rows):
     """Whether rows are a link that is single at all pegs and frozen places."""
     still = set(world.pegs) | set(frozen_places(world, a))
     return is_link(world, a, b, rows) and all(len(rows[place]) == 1 for place in still)
+
+
+def fewest(world, a):
+    """For each standing that comes of a the fewest deeds to it."""
+    return {b: len(run) for b, run in shortest_runs(world, a).items()}
+
+
+def classes(world):
+    """All standings of a world, class by class, each class ascending."""
+    left = standings(world)
+    found = []
+    while left:
+        found.append(sorted(shortest_runs(world, left[0])))
+        left = sorted(set(left) - set(found[-1]))
+    return found
+
+
+def counted(world, run):
+    """For each place how many deeds of a run are at it."""
+    return tuple(sum(deed[0] == place for deed in run) for place in range(world.net.many))
+
+
+def table_rows(table, many):
+    """All rows of a table with so many stones, ascending."""
+    found = [(coat,) for coat in range(table.many)]
+    for _ in range(many - 1):
+        found = [row + (coat,) for row in found for coat in table.beside[row[-1]]]
+    return sorted(found)
+
+
+def away(net, x):
+    """For each place the fewest threads of a walk from x to it."""
+    far, steps = {x: 0}, 0
+    while len(far) < net.many:
+        steps += 1
+        for place in [other for known in far for other in neighbours(net, known)]:
+            far.setdefault(place, steps)
+    return tuple(far[place] for place in range(net.many))
