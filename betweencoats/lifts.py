@@ -23,6 +23,11 @@ def closing_rows(world, a):
     return tuple([struck(rows[x] + (a[y],) + rows[y][::-1][1:]) for x, y in spare])
 
 
+def closes(world, a):
+    """Whether all closing rows of a standing that was checked are single."""
+    return all([len(row) == 1 for row in closing_rows(world, a)])
+
+
 def lifts(world, a):
     """For each place a straight row from the coat at the base to the coat at the place."""
     check_pegged(world)
@@ -34,4 +39,4 @@ def is_flat(world, a):
     """Whether all closing rows of a standing are single."""
     check_pegged(world)
     check_standing(world, a)
-    return all([len(row) == 1 for row in closing_rows(world, a)])
+    return closes(world, a)

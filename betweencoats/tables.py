@@ -1,7 +1,8 @@
 """Tables: which coats may stand beside one another."""
 
-from betweencoats.errors import BadSize, BadTable
+from betweencoats.errors import BadSize, BadStone, BadTable
 from betweencoats.kinds import climb_fault
+from betweencoats.rests import MOST_STONES
 
 MOST_COATS = 8
 
@@ -38,3 +39,12 @@ def row_fault(table, row):
         if at > 0 and coat not in table.beside[row[at - 1]]:
             return at
     return None
+
+
+def check_table_row(table, row):
+    """Refuse a tuple of numbers that is no row of a table with 1 to 200 stones."""
+    if not 1 <= len(row) <= MOST_STONES:
+        raise BadSize(len(row))
+    fault = row_fault(table, row)
+    if fault is not None:
+        raise BadStone(fault)

@@ -3,17 +3,31 @@
 import itertools
 import unittest
 
+from betweencoats.bars import bars, quiet
+from betweencoats.betweens import between
 from betweencoats.classes import class_of
-from betweencoats.errors import BadSize, BadStone
+from betweencoats.countruns import between_many, least_runs
+from betweencoats.errors import BadSize, BadStone, NoPeg
+from betweencoats.filled import filled
+from betweencoats.forks import forks
 from betweencoats.frozen import frozen
+from betweencoats.keys import key
+from betweencoats.leastruns import least_run, lessening
 from betweencoats.lets import done, lets
 from betweencoats.lifts import is_flat, lifts
 from betweencoats.links import link, linked_from
+from betweencoats.meets import gathering, meets
 from betweencoats.netshapes import line_net, ring_net, star_net
+from betweencoats.prices import cost
+from betweencoats.rounds import rounds
 from betweencoats.runs import run_back, run_end, states_of
+from betweencoats.same import come
+from betweencoats.shown import shown
 from betweencoats.standings import is_standing
 from betweencoats.tableshapes import unlike_coats
 from betweencoats.traces import trace
+from betweencoats.tracks import tracks
+from betweencoats.work import least, work
 from betweencoats.worlds import made_world
 from tests.plainly import Case, small_worlds
 
@@ -21,8 +35,15 @@ from tests.plainly import Case, small_worlds
 TAKERS = (
     (lets, ()), (done, (-9, -9)), (run_end, (((-9, -9),) * 700,)), (states_of, (((-9, -9),) * 700,)),
     (run_back, (((-9, -9),) * 700,)), (trace, (((-9, -9),) * 700,)), (class_of, ()), (frozen, ()),
-    (link, ((),)), (linked_from, ((), ())), (lifts, ()), (is_flat, ()),
+    (link, ((),)), (linked_from, ((), ())), (lifts, ()), (is_flat, ()), (key, ()), (shown, (-9,)),
+    (filled, (((-9, ()),),)),
 )
+# Those that take two standings behind the world, those of three, and what stands behind.
+PAIR_TAKERS = (
+    (come, ()), (work, ()), (least, ()), (lessening, ()), (least_run, ()), (rounds, ()), (tracks, ()),
+    (least_runs, ()), (between_many, ()), (cost, ((-9,),)), (bars, ()), (quiet, ()),
+)
+TRIPLE_TAKERS = (between, forks, meets, gathering)
 
 
 class StandingArguments(Case):
@@ -37,6 +58,36 @@ class StandingArguments(Case):
             self.refuses(BadStone, 0, call, world, (3, 3, 3), *more)
             self.refuses(BadStone, 1, call, world, (1, 1, 1), *more)
             self.refuses(BadStone, 2, call, world, (0, 1, 3), *more)
+
+    def test_functions_of_two_standings(self):
+        world = made_world(unlike_coats(3), line_net(3), pegs=(1,))
+        free = made_world(unlike_coats(3), line_net(3))
+        right = (0, 1, 0)
+        for call, more in PAIR_TAKERS:
+            self.refuses(NoPeg, 0, call, free, right, right, *more)
+            self.refuses(NoPeg, 0, call, free, (), (), *more)
+            self.check_bad(lambda bad: (call, world, bad, (), *more))
+            self.check_bad(lambda bad: (call, world, right, bad, *more))
+            # Also where the other one does not come.
+            self.check_bad(lambda bad: (call, world, (1, 2, 1), bad, *more))
+
+    def test_functions_of_three_standings(self):
+        world = made_world(unlike_coats(3), line_net(3), pegs=(1,))
+        free = made_world(unlike_coats(3), line_net(3))
+        right, other = (0, 1, 0), (1, 2, 1)
+        for call in TRIPLE_TAKERS:
+            self.refuses(NoPeg, 0, call, free, right, right, right)
+            self.refuses(NoPeg, 0, call, free, (), (), ())
+            self.check_bad(lambda bad: (call, world, bad, (), (9, 9, 9)))
+            self.check_bad(lambda bad: (call, world, right, bad, (9, 9, 9)))
+            self.check_bad(lambda bad: (call, world, right, right, bad))
+            self.check_bad(lambda bad: (call, world, right, other, bad))
+
+    def check_bad(self, asked):
+        for error, what, bad in (
+                (BadSize, 0, ()), (BadSize, 2, (0, 1)), (BadSize, 4, (9, 9, 9, 9)), (BadStone, 0, (-1, 0, 1)),
+                (BadStone, 0, (3, 3, 3)), (BadStone, 1, (1, 1, 1)), (BadStone, 2, (0, 1, 3))):
+            self.refuses(error, what, *asked(bad))
 
     def test_the_second_standing_comes_after_the_first(self):
         world = made_world(unlike_coats(3), line_net(3), pegs=(1,))
