@@ -41,6 +41,11 @@ def mixed(one, two, j):
     return sum([one[i] * two[j - i] for i in range(j + 1)])
 
 
+def mixed_all(one, two):
+    """The sums of one[i] * two[j - i] for each j, as far as the counts in one go."""
+    return [mixed(one, two, j) for j in range(len(one))]
+
+
 def closing_counts(table, most):
     """How many rows of 2 * j steps come back to where they began, for each j from 0 to most.
 
@@ -70,19 +75,23 @@ def count_by_rest(counts, W, k):
     loose, bound = counts
     ways = loose[W[0]][:k + 1]
     for at in range(1, len(W)):
-        thread = bound[(W[at - 1], W[at])]
-        ways = [mixed(ways, thread, j) for j in range(k + 1)]
+        ways = mixed_all(ways, bound[(W[at - 1], W[at])])
     return ways[k]
+
+
+def count_rows(counts, W, L):
+    """How many rows of L steps have the straight rest W; counts are closing_counts up to L // 2 at least."""
+    spare = L + 1 - len(W)
+    if spare < 0 or spare % 2 == 1:
+        return 0
+    return count_by_rest(counts, W, spare // 2)
 
 
 def row_count(table, W, L):
     """How many rows of L steps have the rest W."""
     check_straight_row(table, W)
     check_steps(L, MOST_STEPS)
-    spare = L + 1 - len(W)
-    if spare < 0 or spare % 2 == 1:
-        return 0
-    return count_by_rest(closing_counts(table, spare // 2), W, spare // 2)
+    return count_rows(closing_counts(table, L // 2), W, L)
 
 
 def all_rows(table, p, L):

@@ -1,5 +1,6 @@
 """The document's words done the long way, to compare the package with, and what the tests share."""
 
+import functools
 import itertools
 import unittest
 
@@ -216,3 +217,34 @@ def away(net, x):
         for place in [other for known in far for other in neighbours(net, known)]:
             far.setdefault(place, steps)
     return tuple(far[place] for place in range(net.many))
+
+
+def straight_rows(table, many):
+    """All straight rows of a table with so many stones."""
+    found = [(coat,) for coat in range(table.many)]
+    for _ in range(many - 1):
+        longer = [row + (coat,) for row in found for coat in table.beside[row[-1]]]
+        found = [row for row in longer if row[-3:-2] != row[-1:]]
+    return found
+
+
+# Tables, and how many stones rings of them may have so that all rings can be looked at.
+RING_CASES = (
+    (unlike_coats(3), 10), (all_coats(2), 10), (MIXED, 7), (unlike_coats(4), 6), (ring_coats(4), 8), (all_coats(3), 6),
+    (ring_coats(5), 8), (line_coats(3), 8), (unlike_coats(2), 6), (made_table(((0,),)), 6), (made_table(((),)), 4),
+    (made_table(((0, 1), (0,))), 8), (made_table(((1, 2), (0, 1), (0,))), 7), (made_table(((1,), (0,), (2, 3), (2,))), 7),
+    (made_table(((1,), (0, 2), (1, 3, 4), (2, 4), (2, 3))), 7),
+)
+
+
+@functools.lru_cache(maxsize=None)
+def listed_ring_classes(beside, n):
+    """All classes of the rings of n stones."""
+    return classes(made_world(made_table(beside), ring_net(n)))
+
+
+def ring_cases():
+    """All (table, n, classes of the rings of n stones) that can be looked at."""
+    for table, most in RING_CASES:
+        for n in range(3, most + 1):
+            yield table, n, listed_ring_classes(table.beside, n)

@@ -52,6 +52,16 @@ FUNCTIONS = {
     "filled": ("filled(world, a, wants)",),
     "normal": ("normal(table, row)", "hand_run(table, row)"),
     "rowcounts": ("row_count(table, W, L)", "all_rows(table, p, L)", "rows_between(table, p, z, L)"),
+    "evencounts": ("even_count(q, m, L)",),
+    "classcounts": ("classes_between(table, p, z, L)",),
+    "ranks": ("nth_row(table, W, L, n)", "rank_of(table, row)"),
+    "lightest": ("lightest(table, W, L, weights)",),
+    "weighed": ("weighed(table, W, L, weights)",),
+    "treesizes": ("tree_size(world, a)",),
+    "ringkeys": ("ring_key(table, ring)",),
+    "ringcounts": ("straight_rings(table, n)", "ring_classes(table, n)"),
+    "ringsizes": ("ring_class_size(table, ring)",),
+    "ringleast": ("ring_least(table, a, b)",),
 }
 
 CLASSES = {"tables": "Table", "nets": "Net", "worlds": "World"}

@@ -12,6 +12,8 @@ ALLOWED_BUILTINS = set((
     "len range enumerate zip min max sum abs sorted reversed int str bool list tuple dict set isinstance ord repr "
     "any all divmod ValueError KeyError IndexError ZeroDivisionError"
 ).split())
+# What may be imported from the library.
+LIBRARY = {"math": {"comb", "gcd"}}
 BARRED = set((
     "register mro elements open input law version_info with_traceback add_note attrgetter breakpoint builtins compile "
     "copyright credits delattr dir eval exec exit gc getattr globals hasattr help id importlib license locals "
@@ -93,7 +95,10 @@ class Language(unittest.TestCase):
         uses = {path.stem: set() for path in files()}
         for path, tree in trees():
             for node in ast.walk(tree):
-                if isinstance(node, ast.ImportFrom):
+                if isinstance(node, ast.ImportFrom) and node.module in LIBRARY:
+                    self.assertLessEqual({alias.name for alias in node.names}, LIBRARY[node.module], path)
+                    self.assertTrue(all(alias.asname is None for alias in node.names), path)
+                elif isinstance(node, ast.ImportFrom):
                     package, _, file = node.module.partition(".")
                     self.assertEqual((package, node.level), ("betweencoats", 0), path)
                     uses[path.stem].add(file)
@@ -105,6 +110,16 @@ class Language(unittest.TestCase):
             self.assertNotEqual(free, [], uses)
             for file in free:
                 del uses[file]
+
+    def test_the_library_is_called_at_once(self):
+        for path, tree in trees():
+            for node in ast.walk(tree):
+                if isinstance(node, ast.ImportFrom) and node.module in LIBRARY:
+                    names = {alias.name for alias in node.names}
+                    called = [part.func for part in ast.walk(tree) if isinstance(part, ast.Call)]
+                    for part in ast.walk(tree):
+                        if isinstance(part, ast.Name) and part.id in names:
+                            self.assertIn(part, called, path)
 
     def test_every_import_is_used(self):
         for path, tree in trees():
@@ -137,9 +152,11 @@ class Language(unittest.TestCase):
     def test_calls(self):
         own = {name for _, tree in trees() for names in top_names(tree) for name in names}
         for path, tree in trees():
+            # Functions that are handed in.
+            handed = {node.arg for node in ast.walk(tree) if isinstance(node, ast.arg)} & {"plus", "times"}
             for node in ast.walk(tree):
                 if isinstance(node, ast.Call) and isinstance(node.func, ast.Name):
-                    self.assertIn(node.func.id, ALLOWED_BUILTINS | own, path)
+                    self.assertIn(node.func.id, ALLOWED_BUILTINS | own | handed, path)
                 elif isinstance(node, ast.Call):
                     self.assertIn(node.func.attr, METHODS, path)
 

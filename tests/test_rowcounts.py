@@ -8,7 +8,7 @@ from betweencoats.errors import BadCoat, BadCount, BadSize, BadStone, NotStraigh
 from betweencoats.rowcounts import all_rows, row_count, rows_between
 from betweencoats.tables import made_table
 from betweencoats.tableshapes import all_coats, line_coats, ring_coats, unlike_coats
-from tests.plainly import MIXED, Case, rested, table_rows
+from tests.plainly import MIXED, Case, rested, straight_rows, table_rows
 
 TABLES = (
     (unlike_coats(3), 7), (line_coats(3), 9), (all_coats(2), 9), (MIXED, 7), (ring_coats(5), 9), (unlike_coats(2), 9),
@@ -155,15 +155,6 @@ class Errors(Case):
         self.assertEqual([all_rows(MIXED, 4, L) for L in range(4)], [1, 0, 0, 0])
         self.assertEqual([rows_between(MIXED, 4, 4, L) for L in range(4)], [1, 0, 0, 0])
         self.assertEqual([rows_between(MIXED, 0, 4, L) for L in range(4)], [0, 0, 0, 0])
-
-
-def straight_rows(table, many):
-    """All straight rows with so many stones."""
-    found = [(coat,) for coat in range(table.many)]
-    for _ in range(many - 1):
-        longer = [row + (coat,) for row in found for coat in table.beside[row[-1]]]
-        found = [row for row in longer if row[-3:-2] != row[-1:]]
-    return found
 
 
 if __name__ == "__main__":

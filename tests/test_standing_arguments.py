@@ -27,6 +27,7 @@ from betweencoats.standings import is_standing
 from betweencoats.tableshapes import unlike_coats
 from betweencoats.traces import trace
 from betweencoats.tracks import tracks
+from betweencoats.treesizes import tree_size
 from betweencoats.work import least, work
 from betweencoats.worlds import made_world
 from tests.plainly import Case, small_worlds
@@ -36,7 +37,7 @@ TAKERS = (
     (lets, ()), (done, (-9, -9)), (run_end, (((-9, -9),) * 700,)), (states_of, (((-9, -9),) * 700,)),
     (run_back, (((-9, -9),) * 700,)), (trace, (((-9, -9),) * 700,)), (class_of, ()), (frozen, ()),
     (link, ((),)), (linked_from, ((), ())), (lifts, ()), (is_flat, ()), (key, ()), (shown, (-9,)),
-    (filled, (((-9, ()),),)),
+    (filled, (((-9, ()),),)), (tree_size, ()),
 )
 # Those that take two standings behind the world, those of three, and what stands behind.
 PAIR_TAKERS = (
