@@ -6,6 +6,12 @@ def even_lots(table):
     return tuple([min(even_ends(table, coat)) for coat in range(table.many)])
 
 
+def same_lot(table, p, q):
+    """Whether a row of even steps leads from the coat p to the coat q."""
+    lots = even_lots(table)
+    return lots[p] == lots[q]
+
+
 def even_ends(table, start):
     """The coats at the ends of the rows of even steps that begin with a coat."""
     ends = [start]

@@ -15,12 +15,16 @@ def lift_rows(world, a):
     return tuple([rows[place] for place in range(world.net.many)])
 
 
-def closing_rows(world, a):
-    """For each thread that leads to no place from its upper, in order, the row round by it to the base and back."""
+def spare_threads(world):
+    """The threads that lead to no place from its upper, in order."""
     found = come_to(world.net, world.base)
+    return [(x, y) for x, y in world.net.threads if found[x] != y and found[y] != x]
+
+
+def closing_rows(world, a):
+    """For each spare thread the row from the base round by it and back."""
     rows = lift_rows(world, a)
-    spare = [(x, y) for x, y in world.net.threads if found[x] != y and found[y] != x]
-    return tuple([struck(rows[x] + (a[y],) + rows[y][::-1][1:]) for x, y in spare])
+    return tuple([struck(rows[x] + (a[y],) + rows[y][::-1][1:]) for x, y in spare_threads(world)])
 
 
 def closes(world, a):

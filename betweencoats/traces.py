@@ -1,15 +1,24 @@
 """Traces of runs: for each place the row of what it and its neighbours were."""
 
-from betweencoats.lets import coat_around
+from betweencoats.lets import changed, coat_around
 from betweencoats.rests import struck
 from betweencoats.runs import checked_states
 
 
+def traced(net, standing, run):
+    """The rows of the places after a run, and by how many steps each deed made them longer; no peg is asked for."""
+    rows = [(coat,) for coat in standing]
+    longer = []
+    state = standing
+    for place, coat in run:
+        row = struck(rows[place] + (coat_around(net, state, place), coat))
+        longer.append(len(row) - len(rows[place]))
+        rows[place] = row
+        state = changed(state, place, coat)
+    return tuple(rows), longer
+
+
 def trace(world, standing, run):
     """The rows of the places after a run: each deed puts the neighbours' coat and the new coat at the end."""
-    states = checked_states(world, standing, run)
-    rows = [(coat,) for coat in standing]
-    for at, (place, coat) in enumerate(run):
-        around = coat_around(world.net, states[at], place)
-        rows[place] = struck(rows[place] + (around, coat))
-    return tuple(rows)
+    checked_states(world, standing, run)
+    return traced(world.net, standing, run)[0]

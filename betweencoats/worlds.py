@@ -1,6 +1,6 @@
 """Worlds: a table, a net and pegs."""
 
-from betweencoats.errors import BadPegs, NoPeg
+from betweencoats.errors import BadPegs, NoPeg, Pegged
 from betweencoats.kinds import climb_fault
 
 
@@ -32,3 +32,9 @@ def check_pegged(world):
     """Refuse a world without pegs."""
     if len(world.pegs) == 0:
         raise NoPeg(0)
+
+
+def check_free(world):
+    """Refuse a world with pegs."""
+    if len(world.pegs) > 0:
+        raise Pegged(world.pegs[0])

@@ -1,5 +1,6 @@
 """Errors: [0.2]."""
 
+import itertools
 import unittest
 
 from betweencoats import errors
@@ -30,6 +31,10 @@ class Errors(unittest.TestCase):
             self.assertEqual(error.__bases__, (Refused,))
             self.assertEqual(error.__name__, name)
             self.assertEqual(error.__mro__[:3], (error, Refused, ValueError))
+
+    def test_none_stands_under_another_one(self):
+        for name, other in itertools.permutations(NAMES, 2):
+            self.assertFalse(issubclass(getattr(errors, name), getattr(errors, other)))
 
     def test_there_are_no_others(self):
         classes = [name for name, thing in vars(errors).items() if isinstance(thing, type)]

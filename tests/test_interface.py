@@ -62,9 +62,27 @@ FUNCTIONS = {
     "ringcounts": ("straight_rings(table, n)", "ring_classes(table, n)"),
     "ringsizes": ("ring_class_size(table, ring)",),
     "ringleast": ("ring_least(table, a, b)",),
+    "bestlinks": ("best_link(world, a, b, *, most=4)",),
+    "freetrees": ("tree_come(world, a, b)",),
+    "freelinks": ("free_come(world, a, b)", "free_link(world, a, b)"),
+    "freeleast": ("free_least(world, a, b)",),
+    "tablemaps": ("is_map(table, other, coats)", "image(row, coats)"),
+    "covers": ("is_cover(table, other, coats)", "over(table, other, coats, net, standing, first)"),
+    "never": ("never_paper(world, a, b)",),
+    "neverjudge": ("never_right(world, a, b, paper)",),
+    "rowtext": ("row_text(numbers)", "row_of(text)", "run_text(run)", "run_of(text)"),
+    "worldtext": ("text_of_world(world)", "world_of(text)"),
 }
 
-CLASSES = {"tables": "Table", "nets": "Net", "worlds": "World"}
+CLASSES = {
+    "tables": ("Table", ("__eq__",)), "nets": ("Net", ("__eq__",)), "worlds": ("World", ("__eq__",)),
+    "floor": ("Floor", (
+        "put(self, place, coat)", "peg(self, place)", "unpeg(self, place)", "undo(self)", "redo(self)", "now(self)",
+        "world(self)", "record(self)", "trace(self)", "account(self)", "away(self)", "home(self)",
+        "__init__(self, world, standing)")),
+}
+# What stands in the interface besides: the errors.
+OTHERS = ("errors",)
 
 
 class Interface(unittest.TestCase):
@@ -80,12 +98,25 @@ class Interface(unittest.TestCase):
                 self.assertEqual(function.__module__, module.__name__)
 
     def test_classes(self):
-        for file, name in CLASSES.items():
+        for file, (name, methods) in CLASSES.items():
             module = importlib.import_module("betweencoats." + file)
             thing = getattr(module, name)
             self.assertTrue(inspect.isclass(thing))
             self.assertEqual(thing.__module__, module.__name__)
-            self.assertIn("__eq__", vars(thing))
+            for signature in methods:
+                method = vars(thing)[signature.partition("(")[0]]
+                self.assertTrue(inspect.isfunction(method))
+                if "(" in signature:
+                    self.assertEqual(method.__name__ + str(inspect.signature(method)), signature)
+
+    def test_each_heading_of_the_document_is_here(self):
+        headings = "errors tables tableshapes evenlots nets netshapes apart worlds standings rests joins gaps cores lets " \
+            "runs traces classes frozen links linkjudge lifts keys same work leastruns rounds roundjudge tracks betweens " \
+            "countruns prices forks meets pegs bars pieces glued netmaps shown filled normal rowcounts evencounts " \
+            "classcounts ranks lightest weighed treesizes ringkeys ringcounts ringsizes ringleast bestlinks freetrees " \
+            "freelinks freeleast tablemaps covers never neverjudge rowtext worldtext floor"
+        known = list(FUNCTIONS) + list(CLASSES) + list(OTHERS)
+        self.assertEqual(sorted(headings.split()), sorted(set(known)))
 
     def test_the_package_holds_python_files_alone(self):
         names = [path.name for path in FOLDER.iterdir() if path.name != "__pycache__"]

@@ -4,12 +4,17 @@ import itertools
 import unittest
 
 from betweencoats.bars import bars, quiet
+from betweencoats.bestlinks import best_link
 from betweencoats.betweens import between
 from betweencoats.classes import class_of
 from betweencoats.countruns import between_many, least_runs
 from betweencoats.errors import BadSize, BadStone, NoPeg
 from betweencoats.filled import filled
+from betweencoats.floor import Floor
 from betweencoats.forks import forks
+from betweencoats.freeleast import free_least
+from betweencoats.freelinks import free_come, free_link
+from betweencoats.freetrees import tree_come
 from betweencoats.frozen import frozen
 from betweencoats.keys import key
 from betweencoats.leastruns import least_run, lessening
@@ -18,6 +23,7 @@ from betweencoats.lifts import is_flat, lifts
 from betweencoats.links import link, linked_from
 from betweencoats.meets import gathering, meets
 from betweencoats.netshapes import line_net, ring_net, star_net
+from betweencoats.never import never_paper
 from betweencoats.prices import cost
 from betweencoats.rounds import rounds
 from betweencoats.runs import run_back, run_end, states_of
@@ -37,14 +43,16 @@ TAKERS = (
     (lets, ()), (done, (-9, -9)), (run_end, (((-9, -9),) * 700,)), (states_of, (((-9, -9),) * 700,)),
     (run_back, (((-9, -9),) * 700,)), (trace, (((-9, -9),) * 700,)), (class_of, ()), (frozen, ()),
     (link, ((),)), (linked_from, ((), ())), (lifts, ()), (is_flat, ()), (key, ()), (shown, (-9,)),
-    (filled, (((-9, ()),),)), (tree_size, ()),
+    (filled, (((-9, ()),),)), (tree_size, ()), (Floor, ()), (best_link, ((),)),
 )
 # Those that take two standings behind the world, those of three, and what stands behind.
 PAIR_TAKERS = (
     (come, ()), (work, ()), (least, ()), (lessening, ()), (least_run, ()), (rounds, ()), (tracks, ()),
-    (least_runs, ()), (between_many, ()), (cost, ((-9,),)), (bars, ()), (quiet, ()),
+    (least_runs, ()), (between_many, ()), (cost, ((-9,),)), (bars, ()), (quiet, ()), (never_paper, ()),
 )
 TRIPLE_TAKERS = (between, forks, meets, gathering)
+# Those that take two standings of a world without pegs.
+FREE_TAKERS = (tree_come, free_come, free_link, free_least, best_link)
 
 
 class StandingArguments(Case):
@@ -83,6 +91,13 @@ class StandingArguments(Case):
             self.check_bad(lambda bad: (call, world, right, bad, (9, 9, 9)))
             self.check_bad(lambda bad: (call, world, right, right, bad))
             self.check_bad(lambda bad: (call, world, right, other, bad))
+
+    def test_functions_of_two_standings_of_a_free_world(self):
+        world = made_world(unlike_coats(3), line_net(3))
+        right = (0, 1, 0)
+        for call in FREE_TAKERS:
+            self.check_bad(lambda bad: (call, world, bad, ()))
+            self.check_bad(lambda bad: (call, world, right, bad))
 
     def check_bad(self, asked):
         for error, what, bad in (
